@@ -9,6 +9,10 @@ def entrants(office, paper):
     return [candidate for candidate in office.candidates.values() if paper in candidate.entered]
 
 
+def entered_ids(office, paper):
+    return [who for who, candidate in office.candidates.items() if paper in candidate.entered]
+
+
 def longest_time(office, paper):
     minutes = office.paper_minutes[paper - 1]
     times = [time_for(minutes, candidate.extra) for candidate in entrants(office, paper)]
@@ -31,14 +35,18 @@ def rows_of_kind(office, quiet):
     return rows
 
 
+def most_of_one(rows):
+    """How many of one paper find seats in these rows."""
+    return sum([(seats + 1) // 2 for seats in rows])
+
+
 def fit_into_rows(counts, rows):
     """Whether so many of each paper find seats, no two of one paper beside one another.
 
     A row of n seats takes at most (n + 1) // 2 of one paper. That, and seats for all, is enough:
     while both hold for all rows, the first row can be filled so that both hold for the others too.
     """
-    most_of_one = sum([(seats + 1) // 2 for seats in rows])
-    return sum(counts) <= sum(rows) and max(counts, default=0) <= most_of_one
+    return sum(counts) <= sum(rows) and max(counts, default=0) <= most_of_one(rows)
 
 
 def can_be_seated(office, papers):
@@ -93,9 +101,13 @@ def papers_of_day(office, timetable, day):
     return papers
 
 
-def crowded_day(office, timetable):
+def days_of_sittings(office):
     # Sittings are told by rising days, so sorted days come as with the sittings.
-    days = sorted(set([sitting.day for sitting in office.sittings]))
+    return sorted(set([sitting.day for sitting in office.sittings]))
+
+
+def crowded_day(office, timetable):
+    days = days_of_sittings(office)
     for who, candidate in office.candidates.items():
         for day in days:
             if entered_among(candidate, papers_of_day(office, timetable, day)) > office.per_day:
@@ -103,10 +115,13 @@ def crowded_day(office, timetable):
     return []
 
 
+def papers_of_sitting(timetable, number):
+    return [paper for paper, sitting in enumerate(timetable, start=1) if sitting == number]
+
+
 def not_seated(office, timetable):
     for number in range(1, len(office.sittings) + 1):
-        papers = [paper for paper, sitting in enumerate(timetable, start=1) if sitting == number]
-        if not can_be_seated(office, papers):
+        if not can_be_seated(office, papers_of_sitting(timetable, number)):
             return [6, number, 0]
     return []
 

@@ -4,23 +4,13 @@ To take a paper out of a right timetable leaves it right, so a timetable that is
 when some papers are put need not be tried with more.
 """
 
+from sittingrooms.groups import all_groups
+from sittingrooms.groups import bit_of
+from sittingrooms.groups import groups_in_order
 from sittingrooms.rules import can_be_seated
 from sittingrooms.rules import entered_among
 from sittingrooms.rules import in_common
 from sittingrooms.rules import longest_time
-
-
-def bit_of(paper):
-    return 1 << (paper - 1)
-
-
-def papers_in(bits, how_many):
-    return [paper for paper in range(1, how_many + 1) if bits & bit_of(paper)]
-
-
-def all_sets(how_many):
-    """All sets of papers as rising lists; the set whose bits are n stands at place n."""
-    return [papers_in(bits, how_many) for bits in range(1 << how_many)]
 
 
 def may_share_sitting(office, papers):
@@ -45,7 +35,7 @@ class Plan:
 
     def __init__(self, office):
         how_many = len(office.paper_minutes)
-        sets = all_sets(how_many)
+        sets = all_groups(how_many)
         self.days = [sitting.day for sitting in office.sittings]
         self.sitting_right = [may_share_sitting(office, papers) for papers in sets]
         self.day_right = [may_share_day(office, papers) for papers in sets]
@@ -107,14 +97,10 @@ def best_timetable(office):
     return None
 
 
-def size_then_first(papers):
-    return (len(papers), papers)
-
-
 def core_papers(office, limit):
     """The first set of papers that no right timetable puts into at most limit sittings; None if there's none."""
     plan = Plan(office)
-    for papers in sorted(all_sets(len(office.paper_minutes)), key=size_then_first):
+    for papers in groups_in_order(len(office.paper_minutes)):
         if first_timetable(plan, papers, limit) is None:
             return papers
     return None

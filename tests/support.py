@@ -2,6 +2,9 @@
 
 from sittingrooms.office import answers
 
+HUGE = 1000000000000000000
+TOP_ID = 1000000000
+
 
 def open_office(per_day=4, ratio=30):
     return [0, per_day, ratio]
@@ -55,6 +58,60 @@ def core(k):
     return [12, k]
 
 
+def check(*timetable):
+    return [13, len(timetable), *timetable]
+
+
+def adopt(*timetable):
+    return [14, len(timetable), *timetable]
+
+
+def put(p, k):
+    return [15, p, k]
+
+
+def seats(k):
+    return [16, k]
+
+
+def where(who, k):
+    return [17, who, k]
+
+
+def invigilators(k):
+    return [18, k]
+
+
+def table():
+    return [19]
+
+
+def papers(who):
+    return [20, who]
+
+
+def sitters(p):
+    return [21, p]
+
+
+def days(who):
+    return [22, who]
+
+
+def would(p, k):
+    return [23, p, k]
+
+
+def lengths():
+    return [24]
+
+
+def entered(*lists):
+    """Candidates 1, 2 ... , each with the papers they are entered for."""
+    calls = [candidate(who) for who in range(1, len(lists) + 1)]
+    return calls + [enter(who, p) for who, entries in enumerate(lists, start=1) for p in entries]
+
+
 def flat(calls):
     return [number for call in calls for number in call]
 
@@ -94,3 +151,10 @@ def last(*calls):
 def last_of_any(*calls):
     """The answer to the last call, whether the others are refused or not."""
     return ask(*calls)[-1]
+
+
+def edges(told, make, low, high):
+    """What is answered to make(value) for the least and the greatest that are let, then for one beyond each."""
+    let = [last(*told, make(value)) for value in (low, high)]
+    beyond = [last(*told, make(value)) for value in (low - 1, high + 1, -HUGE, HUGE)]
+    return let, beyond

@@ -5,16 +5,12 @@ import time
 import unittest
 
 from tests import reference
-from tests.support import (ahead, ask, best, candidate, core, enter, last, open_office, paper, room, sitting, withdraw)
+from tests.support import (ahead, ask, best, candidate, core, enter, entered, last, open_office, paper, room, sitting,
+                           withdraw)
 
 
 def days(*numbers):
     return [sitting(day) for day in numbers]
-
-
-def entered(*lists):
-    calls = [candidate(who) for who in range(1, len(lists) + 1)]
-    return calls + [enter(who, p) for who, papers in enumerate(lists, start=1) for p in papers]
 
 
 def cores(*told):

@@ -2,13 +2,7 @@
 
 import unittest
 
-from tests.support import candidate, clashes, enter, last, open_office, paper, withdraw
-
-
-def entered(*lists):
-    """Candidates 1, 2 ... , each with the papers they are entered for."""
-    calls = [candidate(who) for who in range(1, len(lists) + 1)]
-    return calls + [enter(who, p) for who, papers in enumerate(lists, start=1) for p in papers]
+from tests.support import candidate, clashes, entered, last, open_office, paper, withdraw
 
 
 class Clashes(unittest.TestCase):

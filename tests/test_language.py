@@ -23,6 +23,8 @@ WORDS = """type typing typing_extensions enum Enum IntEnum StrEnum Flag IntFlag 
 NamedTuple TypedDict TYPE_CHECKING abstractmethod""".split()
 NEVER = "register mro elements open input version_info with_traceback add_note format format_map".split()
 WALKED = ("zip", "enumerate", "reversed", "range")
+WALKERS = ("list", "tuple", "dict", "sorted", "sum", "any", "all", "enumerate", "zip", "min", "max")
+CHANGES = ("append", "clear", "extend", "insert", "pop", "remove", "reverse", "setdefault", "update")
 METHODS_OF_PYTHON = {name for kind in (str, int, list, dict, set, bytes) for name in dir(kind)}
 
 
@@ -183,7 +185,8 @@ class Language(unittest.TestCase):
                 if isinstance(node, (ast.For, ast.comprehension)):
                     let.append(node.iter)
                 if isinstance(node, ast.Call) and isinstance(node.func, ast.Name) and node.args:
-                    let.append(node.args[0])
+                    if node.func.id in WALKERS:
+                        let.append(node.args[0])
             for node in ast.walk(tree):
                 if not isinstance(node, ast.Call):
                     continue
@@ -191,6 +194,55 @@ class Language(unittest.TestCase):
                 views = isinstance(node.func, ast.Attribute) and node.func.attr in ("items", "keys", "values")
                 if walks or views:
                     self.assertTrue(any(node is each for each in let), ast.unparse(node))
+
+    def test_what_is_kept_at_the_top_is_only_read(self):
+        for path, text, tree in self.each():
+            kept = [node.targets[0].id for node in tree.body if isinstance(node, ast.Assign)
+                    and isinstance(node.value, (ast.List, ast.Dict, ast.Tuple))]
+            for node in tree.body:
+                if isinstance(node, ast.Assign) and isinstance(node.value, (ast.List, ast.Dict)):
+                    within = [each for each in ast.walk(node.value) if each is not node.value]
+                    self.assertEqual([each for each in within if isinstance(each, (ast.List, ast.Dict))], [])
+            read = []
+            for node in ast.walk(tree):
+                if isinstance(node, ast.Subscript) and isinstance(node.ctx, ast.Load):
+                    read.append(node.value)
+                if isinstance(node, (ast.For, ast.comprehension)):
+                    read.append(node.iter)
+            for node in ast.walk(tree):
+                if isinstance(node, ast.Name) and isinstance(node.ctx, ast.Load) and node.id in kept:
+                    self.assertTrue(any(node is each for each in read), node.id)
+
+    def test_values_are_given_through_a_name(self):
+        for path, text, tree in self.each():
+            for node in ast.walk(tree):
+                if isinstance(node, ast.Attribute) and isinstance(node.ctx, ast.Store):
+                    self.assertIsInstance(node.value, ast.Name, ast.unparse(node))
+
+    def test_what_a_loop_walks_is_not_changed_in_it(self):
+        for path, text, tree in self.each():
+            for loop in [node for node in ast.walk(tree) if isinstance(node, ast.For)]:
+                walked = loop.iter
+                if isinstance(walked, ast.Call) and not isinstance(walked.func, ast.Attribute) and walked.args:
+                    walked = walked.args[0]
+                elif isinstance(walked, ast.Call) and isinstance(walked.func, ast.Attribute):
+                    walked = walked.func.value
+                for node in [each for row in loop.body for each in ast.walk(row)]:
+                    if isinstance(node, ast.Subscript) and isinstance(node.ctx, ast.Store):
+                        self.assertNotEqual(ast.unparse(node.value), ast.unparse(walked))
+                    if isinstance(node, ast.Attribute) and node.attr in CHANGES:
+                        self.assertNotEqual(ast.unparse(node.value), ast.unparse(walked))
+
+    def test_no_name_is_a_method_and_a_value(self):
+        methods = set()
+        values = set()
+        for path, text, tree in self.each():
+            for node in ast.walk(tree):
+                if isinstance(node, ast.ClassDef):
+                    methods |= {each.name for each in node.body if isinstance(each, ast.FunctionDef)}
+                if isinstance(node, ast.Attribute) and isinstance(node.ctx, ast.Store):
+                    values.add(node.attr)
+        self.assertEqual(methods & values, set())
 
     def test_sets(self):
         for path, text, tree in self.each():

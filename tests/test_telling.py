@@ -2,20 +2,16 @@
 
 import unittest
 
-from tests.support import (ahead, ask, best, candidate, clashes, core, enter, invigilator, last, last_of_any,
-                           open_office, paper, room, sitting, time, withdraw)
-
-HUGE = 1000000000000000000
-TOP_ID = 1000000000
+from tests.support import (TOP_ID, ahead, ask, best, candidate, clashes, core, edges, enter, invigilator, last,
+                           last_of_any, open_office, paper, room, sitting, time, withdraw)
 
 
 class Ranges(unittest.TestCase):
     def check_edges(self, ahead_of_it, make, low, high):
         """make(value) is a call; low and high are let, one beyond each is not."""
-        for value in (low, high):
-            self.assertEqual(last(*ahead_of_it, make(value))[0], 0, make(value))
-        for value in (low - 1, high + 1, -HUGE, HUGE):
-            self.assertEqual(last(*ahead_of_it, make(value)), [-1], make(value))
+        let, beyond = edges(ahead_of_it, make, low, high)
+        self.assertEqual([answer[0] for answer in let], [0, 0])
+        self.assertEqual(beyond, [[-1]] * 4)
 
     def test_open(self):
         self.check_edges([], lambda value: [0, value, 1], 1, 4)
